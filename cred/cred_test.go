@@ -332,7 +332,7 @@ func TestModeOfEach(t *testing.T) {
 		for _, kind := range append([]int{api.File}, notFiles...) {
 			for _, gid := range ids {
 				loses := c.Uid != 0 && kind == api.File && !memberSlowly(c, gid)
-				for mode := gid & 7; mode < 4096; mode += 3 {
+				for mode := range 4096 {
 					want := mode
 					if loses && mode/1024%2 == 1 {
 						want -= 1024
@@ -426,17 +426,17 @@ func TestStickyKnown(t *testing.T) {
 }
 
 func TestStickyOfEach(t *testing.T) {
-	var some []int
-	for mode := range 64 {
-		some = append(some, mode*64+mode)
+	var all []int
+	for mode := range 4096 {
+		all = append(all, mode)
 	}
 	for n := range noModes {
-		some = append(some, n)
+		all = append(all, n)
 	}
 	for _, c := range everyone() {
 		for _, dirUid := range ids {
 			for _, uid := range ids {
-				for _, mode := range some {
+				for _, mode := range all {
 					want := c.Uid == 0 || rest(mode)/512%2 == 0 || dirUid == c.Uid || uid == c.Uid
 					if got := Sticky(c, mode, dirUid, uid); got != want {
 						t.Fatalf("Sticky(%v, %o, %d, %d) = %v", c, mode, dirUid, uid, got)
